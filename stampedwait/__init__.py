@@ -1,0 +1,1 @@
+"""Stampedwait: dealings that unsure clocks put in order."""
