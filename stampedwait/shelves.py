@@ -78,10 +78,17 @@ class Shelf:
     def at(self, key, time):
         row = self.row_of(key)
         refuse_no_time(time)
-        if self.let_go_to is not None and time < self.let_go_to:
-            raise Gone(self.let_go_to)
+        self.refuse_gone(time)
         many = many_up_to(row, time)
         return row[many - 1][1] if many else None
+
+    def gone_to(self):
+        """The greatest time up to which was let go, or None."""
+        return self.let_go_to
+
+    def refuse_gone(self, time):
+        if self.let_go_to is not None and time < self.let_go_to:
+            raise Gone(self.let_go_to)
 
     def twin(self):
         other = Shelf()

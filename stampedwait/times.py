@@ -15,6 +15,10 @@ def is_count(thing):
     return is_whole(thing) and thing >= 0
 
 
+def is_from_to(thing, least, most):
+    return is_whole(thing) and least <= thing <= most
+
+
 def is_row_of_whole(thing, least, most):
     """Whether it is a tuple of whole numbers, from least to most many."""
     if not isinstance(thing, tuple) or not least <= len(thing) <= most:

@@ -7,6 +7,7 @@ import unittest
 VALUES = {
     "times": {"WHOLE": (1, 1)},
     "clocks": {"DRIFT": (1, 100)},
+    "copies": {"LEASE": 20},
 }
 FUNCTIONS = {
     "times": {
@@ -14,6 +15,7 @@ FUNCTIONS = {
         "is_stamp": "(thing)", "least_passed": "(ticks, drift)", "most_passed": "(ticks, drift)",
     },
     "shelves": {"is_key": "(thing)", "is_worth": "(thing)"},
+    "ledgers": {"first_house": "(key, houses)"},
 }
 CLASSES = {
     "clocks": {"Clock": {
@@ -26,6 +28,37 @@ CLASSES = {
         "__init__": "(self)", "put": "(self, key, stamp, worth)", "let_go": "(self, time)",
         "versions": "(self, key)", "all_keys": "(self)", "newest": "(self, key)",
         "at": "(self, key, time)", "twin": "(self)", "__len__": "(self)",
+    }},
+    "holds": {"Holds": {
+        "__init__": "(self)", "ask": "(self, dealing, key, mode, *, age=None)", "pledge": "(self, dealing)",
+        "keep": "(self, dealing, some)", "free": "(self, dealing, *, forget=False)", "of": "(self, dealing)",
+        "waiting": "(self)", "called_off": "(self)", "pledged": "(self)", "twin": "(self)",
+    }},
+    "copies": {"Copies": {
+        "__init__": "(self, many=3, *, drift=(1, 100), lease=20)", "set_clock": "(self, copy, low, high)",
+        "tick_clock": "(self, copy, many=1)", "stop": "(self, copy)", "back": "(self, copy)", "renew": "(self)",
+        "catch_up": "(self, copy)", "write": "(self, entry)", "choose": "(self, copy)", "clock": "(self, copy)",
+        "is_up": "(self, copy)", "reign": "(self)", "heads": "(self)", "head": "(self)",
+        "book": "(self, copy=None)", "twin": "(self)", "__len__": "(self)",
+    }},
+    "ledgers": {"Ledger": {
+        "__init__": "(self, house, houses=1)", "note": "(self, entry)", "word": "(self, dealing)",
+        "pledge_of": "(self, dealing)", "stamp_of": "(self, dealing)", "low_of": "(self, dealing)",
+        "pending": "(self)", "last_stamp": "(self)", "last_serial": "(self)", "last_mark": "(self)",
+        "shelf": "(self)", "house_of": "(self, key)", "house_at": "(self, key, time)",
+        "fields_at": "(self, time)", "worth_at": "(self, key, time)", "safe": "(self)", "twin": "(self)",
+    }},
+    "houses": {"House": {
+        "__init__": "(self, number, houses=1, *, copies=3, drift=(1, 100), lease=20, wait=(1, 1))",
+        "number": "(self)", "floor": "(self)", "reign": "(self)", "head": "(self)", "bounds": "(self)",
+        "copies": "(self)", "ledger": "(self)", "holds": "(self)", "set_clock": "(self, copy, low, high)",
+        "tick_clock": "(self, copy, many=1)", "stop": "(self, copy)", "back": "(self, copy)", "renew": "(self)",
+        "catch_up": "(self, copy)", "choose": "(self, copy)",
+        "hold": "(self, dealing, key, mode, *, reign, age=None, coming=False)", "newest": "(self, dealing, key)",
+        "drop": "(self, dealing)", "receive": "(self, thing)", "tell": "(self, dealing)",
+        "give_up": "(self, dealing)", "questions": "(self)", "read": "(self, key, time, *, copy=None)",
+        "look": "(self, key, time, *, copy=None)", "mark": "(self)", "let_go": "(self, time)",
+        "rise": "(self, time, *, copy=None)", "twin": "(self)",
     }},
 }
 

@@ -24,6 +24,10 @@ DOUBLE = set("__init__ __eq__ __repr__ __str__ __len__ __enter__ __exit__ __call
 BARRED_ATTRIBUTES = set((
     "items keys values pop update append clear extend insert remove reverse setdefault sort args "
     "encode decode hex fromhex format").split())
+BUILTIN_METHODS = set((
+    "append clear copy count endswith extend find get index insert isalnum isalpha isdigit islower isspace isupper "
+    "items join keys ljust lower lstrip partition pop remove replace reverse rfind rjust rpartition rsplit rstrip "
+    "setdefault split splitlines startswith strip update upper values zfill bit_length").split())
 BARRED_NODES = (
     ast.Global, ast.AsyncFunctionDef, ast.AsyncFor, ast.AsyncWith, ast.Await, ast.Import,
     ast.Div, ast.MatMult, ast.MatchClass, ast.MatchMapping)
@@ -140,6 +144,37 @@ class Code(unittest.TestCase):
                   if isinstance(node.ctx, ast.Store)}
         self.assertEqual(methods & stored, set())
         self.assertEqual(stored & BARRED_ATTRIBUTES, set())
+
+    def test_attributes_that_are_read_are_assigned_somewhere(self):
+        methods = {row.name for name, node in self.nodes(ast.ClassDef) for row in node.body
+                   if isinstance(row, ast.FunctionDef)}
+        stored = {node.attr for name, node in self.nodes(ast.Attribute) if isinstance(node.ctx, ast.Store)}
+        for name, node in self.nodes(ast.Attribute):
+            self.assertIn(node.attr, methods | stored | BUILTIN_METHODS, (name, node.lineno))
+
+    def test_no_local_name_is_that_of_a_class_or_an_import(self):
+        for path, tree in self.trees.items():
+            taken = {alias.name for row in tree.body if isinstance(row, ast.ImportFrom) for alias in row.names}
+            taken |= {row.name for row in tree.body if isinstance(row, ast.ClassDef)}
+            for node in ast.walk(tree):
+                if isinstance(node, ast.arg):
+                    self.assertNotIn(node.arg, taken, path.name)
+                elif isinstance(node, ast.Name) and isinstance(node.ctx, ast.Store):
+                    self.assertNotIn(node.id, taken, path.name)
+
+    def test_imports_make_no_ring(self):
+        above = {path.stem: {row.module.split(".")[1] for row in tree.body if isinstance(row, ast.ImportFrom)}
+                 for path, tree in self.trees.items()}
+        while above:
+            free = {name for name, others in above.items() if not others & set(above)}
+            self.assertTrue(free, above)
+            above = {name: others for name, others in above.items() if name not in free}
+
+    def test_only_own_errors_are_caught(self):
+        own = {row.name for path, tree in self.trees.items() for row in tree.body if isinstance(row, ast.ClassDef)}
+        for name, node in self.nodes(ast.ExceptHandler):
+            self.assertIsInstance(node.type, ast.Name, name)
+            self.assertIn(node.type.id, own, name)
 
     def test_is_stands_with_none_true_and_false_alone(self):
         for name, node in self.nodes(ast.Compare):
