@@ -168,12 +168,12 @@ class Driver:
     def deliver(self, letter):
         self.letters += self.houses[letter[3]].receive(letter)
 
-    def look_up(self, key, time, copy):
+    def look_up(self, word, key, time, copy):
         number = first_house(key, self.many)
         while True:
             try:
                 worth = self.houses[number].read(key, time, copy=copy)
-                self.reads.append((self.true, time, key, worth))
+                self.reads.append((word, self.true, time, key, worth))
                 return
             except Elsewhere as elsewhere:
                 number = elsewhere.house
@@ -232,7 +232,7 @@ class Driver:
         elif word in ("at", "copy", "now"):
             copies = copy if word == "copy" else None
             time = house.bounds()[1] if word == "now" else self.true - chance.randrange(30)
-            self.look_up(chance.choice(KEYS), time, copies)
+            self.look_up(word, chance.choice(KEYS), time, copies)
 
     def settle(self):
         """Rounds in which all copies come back and all letters come; ends where nothing is pledged."""
