@@ -291,10 +291,14 @@ class House:
         return [(WHAT_LETTER, dealing_in(pledge), self.own_number, home_in(pledge), None)
                 for pledge in self.noted.pending_pledges() if home_in(pledge) != self.own_number]
 
-    def is_by_head(self, copy):
-        """Whether the head reads where this copy is told (None: no copy), and not another one that is up."""
+    def refuse_no_reading(self, time, copy):
+        # what is no copy goes ahead of all else, also of what is no time
         if copy is not None:
             self.crew.refuse_no_copy(copy)
+        refuse_no_time(time)
+
+    def is_by_head(self, copy):
+        """Whether the head reads where this copy is told (None: no copy), and not another one that is up."""
         if copy is None or copy == self.crew.head():
             self.need_head()
             return True
@@ -317,7 +321,7 @@ class House:
         return ledger
 
     def look(self, key, time, *, copy=None):
-        refuse_no_time(time)
+        self.refuse_no_reading(time, copy)
         if self.is_by_head(copy):
             ledger = self.noted
             self.refuse_unreadable(time)
@@ -337,7 +341,7 @@ class House:
         return worth
 
     def rise(self, time, *, copy=None):
-        refuse_no_time(time)
+        self.refuse_no_reading(time, copy)
         if self.is_by_head(copy):
             self.rise_to(time)
 

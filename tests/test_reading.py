@@ -67,8 +67,9 @@ class ByTheHead(Case):
         for thing in ODD:
             for each in (house, nobody):
                 for deed in (lambda: each.read("a", thing), lambda: each.look("a", thing),
-                             lambda: each.read("a", thing, copy=99), lambda: each.look("a", thing, copy=99),
-                             lambda: each.rise(thing), lambda: each.let_go(thing)):
+                             lambda: each.read("a", thing, copy=0), lambda: each.look("a", thing, copy=0),
+                             lambda: each.rise(thing), lambda: each.rise(thing, copy=0),
+                             lambda: each.let_go(thing)):
                     with self.assertRaises(NoNumber):
                         deed()
 
@@ -196,16 +197,17 @@ class ByAnotherCopy(Case):
         house = stocked()
         self.assertEqual(self.unchanged(house, lambda: house.read("a", 29, copy=1)), (2, 2))
 
-    def test_no_copy_of_anything(self):
+    def test_no_copy_of_anything_ahead_of_all_else(self):
         for house in (stocked(), house_of(copies=3, head=None)):
             for thing in ODD + [-1, 3, BIG]:
                 if thing is None:
                     continue
-                for deed in (lambda: house.read("a", 99, copy=thing), lambda: house.look("a", 5, copy=thing),
-                             lambda: house.rise(5, copy=thing)):
-                    with self.assertRaises(NoCopy) as caught:
-                        deed()
-                    self.assertIs(caught.exception.copy, thing)
+                for time in (5, 99, "x", None, True):
+                    for deed in (lambda: house.read("a", time, copy=thing), lambda: house.look("a", time, copy=thing),
+                                 lambda: house.rise(time, copy=thing)):
+                        with self.assertRaises(NoCopy) as caught:
+                            deed()
+                        self.assertIs(caught.exception.copy, thing)
 
     def test_that_is_not_up(self):
         house = stocked()
