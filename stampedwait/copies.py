@@ -11,6 +11,10 @@ MOST_COPIES = 5
 NOTHING_PROMISED = -1
 
 
+def greatest_promise(mates):
+    return max([NOTHING_PROMISED if mate.promised is None else mate.promised for mate in mates])
+
+
 class Mate:
     """One copy: its clock, how much of the book it has, and what it promised."""
 
@@ -95,7 +99,7 @@ class Copies:
         some = [mate for mate in self.mates if mate.can_promise()]
         if not chosen.can_promise() or not self.is_most(some):
             raise NoHead(None)
-        floor = max([NOTHING_PROMISED if mate.promised is None else mate.promised for mate in some])
+        floor = greatest_promise(some)
         self.reigns += 1
         self.chosen = copy
         chosen.has = max([mate.has for mate in some])
@@ -145,6 +149,13 @@ class Copies:
 
     def clock(self, copy):
         return self.mate(copy).ticker.twin()
+
+    def all_bounds(self):
+        return [mate.ticker.bounds() for mate in self.mates]
+
+    def last_promise(self):
+        """The greatest time that any copy promised."""
+        return greatest_promise(self.mates)
 
     def is_up(self, copy):
         return self.mate(copy).up

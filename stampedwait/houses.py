@@ -128,8 +128,16 @@ class House:
 
     def drop(self, dealing):
         self.need_head()
+        self.loosen(dealing)
+
+    def loosen(self, dealing):
+        # without a head, too: who is off for good must not hold here when the head is back
         if self.noted.word(dealing) in (None, OFF):
             self.key_holds.free(dealing)
+
+    def has_lost(self, dealing, reign):
+        """Whether what it held by this reign is gone: it was called off, or a new reign began."""
+        return reign != self.reign() or dealing in self.key_holds.called_off()
 
     def enter(self, entry):
         self.crew.write(entry)

@@ -29,20 +29,27 @@ def writes_in(pledge):
     return pledge[6]
 
 
-def more_in(pledge, word):
-    """The two things that stand behind the word, where it brings such a thing more, else None."""
-    more = pledge[7]
+def things_behind(more, word):
+    """The two things that stand behind the word, where this is what more is, else None."""
     return (more[1], more[2]) if more is not None and more[0] == word else None
 
 
-def move_in(pledge):
+def move_of(more):
     """(key, to), or None."""
-    return more_in(pledge, MOVE)
+    return things_behind(more, MOVE)
+
+
+def form_of(more):
+    """(time, fields), or None."""
+    return things_behind(more, FORM)
+
+
+def move_in(pledge):
+    return move_of(pledge[7])
 
 
 def form_in(pledge):
-    """(time, fields), or None."""
-    return more_in(pledge, FORM)
+    return form_of(pledge[7])
 
 
 def holds_wanted(pledge):

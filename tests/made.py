@@ -66,17 +66,23 @@ def book(house):
 
 
 class Case(unittest.TestCase):
+    # all that is told of what is asked, to be compared
+    see = staticmethod(seen)
+
     def refused(self, asked, kind, deed, **fields):
         """It is refused so, with just these fields, and changes nothing."""
-        was = seen(asked)
+        was = self.see(asked)
+        self.raised(kind, deed, **fields)
+        self.assertEqual(self.see(asked), was)
+
+    def raised(self, kind, deed, **fields):
         with self.assertRaises(kind) as caught:
             deed()
         self.assertIs(type(caught.exception), kind)
         self.assertEqual({name: getattr(caught.exception, name) for name in fields}, fields)
-        self.assertEqual(seen(asked), was)
 
     def unchanged(self, asked, deed):
-        was = seen(asked)
+        was = self.see(asked)
         told = deed()
-        self.assertEqual(seen(asked), was)
+        self.assertEqual(self.see(asked), was)
         return told

@@ -16,6 +16,9 @@ FUNCTIONS = {
     },
     "shelves": {"is_key": "(thing)", "is_worth": "(thing)"},
     "ledgers": {"first_house": "(key, houses)"},
+    "snapshots": {"read_at": "(world, time, keys, *, copy=None)", "read_now": "(world, house, keys)"},
+    "moving": {"move": "(world, key, to)", "form_ahead": "(world, time, fields)"},
+    "settling": {"settle": "(world)"},
 }
 CLASSES = {
     "clocks": {"Clock": {
@@ -59,6 +62,24 @@ CLASSES = {
         "give_up": "(self, dealing)", "questions": "(self)", "read": "(self, key, time, *, copy=None)",
         "look": "(self, key, time, *, copy=None)", "mark": "(self)", "let_go": "(self, time)",
         "rise": "(self, time, *, copy=None)", "twin": "(self)",
+    }},
+    "world": {"World": {
+        "__init__": "(self, houses, *, copies=3, drift=(1, 100), lease=20, wait=(1, 1))",
+        "true_now": "(self)", "told_wait": "(self)", "tick": "(self, many=1)",
+        "set_clock": "(self, house, copy, *, before=0, behind=0)", "pace": "(self, house, copy, pace)",
+        "stop": "(self, house, copy)", "back": "(self, house, copy)", "renew": "(self, house)",
+        "catch_up": "(self, house, copy)", "let_go": "(self, house, time)", "choose": "(self, house, copy)",
+        "mark": "(self, house)", "question": "(self, house)", "seen_house": "(self, house)", "begin": "(self)",
+        "again": "(self, dealing)", "age_of": "(self, dealing)", "word": "(self, dealing)",
+        "take": "(self, dealing, key, mode)", "read": "(self, dealing, key)", "write": "(self, dealing, key, worth)",
+        "finish": "(self, dealing)", "give_up": "(self, dealing)", "lose": "(self, number)",
+        "tell": "(self, dealing)", "letters": "(self)", "deliver": "(self, number)", "waiting": "(self)",
+        "history": "(self)", "book": "(self)", "play": "(self, deeds)", "twin": "(self)", "__len__": "(self)",
+        "houses": "(self)", "house_with": "(self, key)", "look": "(self, house, key, time, *, copy=None)",
+        "rise": "(self, house, time, *, copy=None)", "keep_read": "(self, word, time, key, worth)",
+        "begin_more": "(self, more)", "take_at": "(self, dealing, house, key, mode, *, coming=False)",
+        "read_in_house": "(self, dealing, house, key)", "put_in_house": "(self, dealing, house, key, worth)",
+        "put_off": "(self, dealing)",
     }},
 }
 
