@@ -18,11 +18,11 @@ WORDS = COMMON * 12 + OFTEN * 6 + SELDOM * 2 + RARE
 class Drawer:
     """Draws deeds for a world of its own, and plays each."""
 
-    def __init__(self, chance, wait=(1, 1)):
+    def __init__(self, chance, wait=(1, 1), drift=None):
         self.chance = chance
         self.many = chance.randrange(1, 5)
         self.copies = chance.choice([1, 2, 3, 3, 5])
-        self.drift = chance.choice([(0, 1), (1, 100), (1, 5), (1, 2)])
+        self.drift = drift or chance.choice([(0, 1), (1, 100), (1, 5), (1, 2)])
         lease = chance.choice([20, 100, 1000, 1000])
         self.world = World(self.many, copies=self.copies, drift=self.drift, lease=lease, wait=wait)
         self.worth = 0

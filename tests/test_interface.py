@@ -19,6 +19,9 @@ FUNCTIONS = {
     "snapshots": {"read_at": "(world, time, keys, *, copy=None)", "read_now": "(world, house, keys)"},
     "moving": {"move": "(world, key, to)", "form_ahead": "(world, time, fields)"},
     "settling": {"settle": "(world)"},
+    "histories": {"is_ordered": "(thing)", "order_of": "(thing)"},
+    "shortened": {"hurried": "(share)"},
+    "deedtexts": {"shown_deed": "(deed)", "read_deed": "(text)"},
 }
 CLASSES = {
     "clocks": {"Clock": {
@@ -81,6 +84,7 @@ CLASSES = {
         "read_in_house": "(self, dealing, house, key)", "put_in_house": "(self, dealing, house, key, worth)",
         "put_off": "(self, dealing)",
     }},
+    "desk": {"Desk": {"__init__": "(self)", "say": "(self, row)", "__len__": "(self)"}},
 }
 
 

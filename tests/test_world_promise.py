@@ -4,6 +4,7 @@ import random
 import unittest
 
 from stampedwait.errors import Early, Gone, NoHead, Waits
+from stampedwait.histories import is_ordered, order_of
 from stampedwait.ledgers import shaped
 from stampedwait.settling import settle
 from stampedwait.snapshots import read_at
@@ -84,6 +85,8 @@ class Promise(unittest.TestCase):
 
     def check_order(self, world):
         rows = by_stamps(world)
+        self.assertIs(is_ordered(world.history()), True)
+        self.assertEqual(order_of(world.history()), [row[1] for row in rows])
         self.assertEqual(len({row[4] for row in rows}), len(rows))
         for first in rows:
             self.assertLessEqual(first[2], first[3])
