@@ -80,7 +80,7 @@ def read_deed(text):
     kinds = DEED_THINGS.get(word)
     if kinds is None or len(things) != len(kinds):
         raise NoText(0)
-    return (word, *[read_thing(thing, kind) for thing, kind in zip(things, kinds)])
+    return tuple([word] + [read_thing(thing, kind) for thing, kind in zip(things, kinds)])
 
 
 def shown_row(things, sign):

@@ -69,26 +69,23 @@ def deliver_all(world):
         pass
 
 
-def tell_all(world):
-    for dealing in with_word(world, (ASKED, SURE)):
-        try:
-            world.tell(dealing)
-        except Waits:
-            continue
-    deliver_all(world)
-
-
 def finish_all(world):
     for dealing in with_word(world, (ASKED,)):
         world.finish(dealing)
-    deliver_all(world)
 
 
 def question_all(world):
     # a home that ended a dealing without knowing its other houses told them nothing
     for house in range(world.houses()):
         world.question(house)
-    deliver_all(world)
+
+
+def tell_all(world):
+    for dealing in with_word(world, (ASKED, SURE)):
+        try:
+            world.tell(dealing)
+        except Waits:
+            continue
 
 
 def settle_once(world):
@@ -101,7 +98,9 @@ def settle_once(world):
     deliver_all(world)
     finish_all(world)
     question_all(world)
+    deliver_all(world)
     tell_all(world)
+    deliver_all(world)
 
 
 def settle(world):

@@ -13,7 +13,10 @@ LONGEST_REST = 900
 
 def ticks_of(many, longest):
     """So many ticks as a row of numbers, none above the longest."""
-    return [longest] * (many // longest) + [rest for rest in (many % longest,) if rest > 0]
+    row = [longest] * (many // longest)
+    if many % longest > 0:
+        row.append(many % longest)
+    return row
 
 
 def hurried(share):

@@ -123,11 +123,37 @@ class Settling(WorldCase):
         world = world_of(2, copies=3, lease=1000)
         world.begin()
         self.settled(world, 1)
-        self.assertGreater(world.true_now(), 1000)
+        self.assertEqual(world.true_now(), 1001)
         self.assertEqual(world.seen_house(0).floor(), 1000)
         for house in (0, 1):
             for copy in range(3):
                 self.assertEqual(world.seen_house(house).copies().clock(copy).bounds()[0], world.true_now())
+
+    def test_by_as_little_as_one_tick(self):
+        world = world_of(2, lease=1)
+        world.begin()
+        world.tick()
+        self.settled(world, 1)
+        self.assertEqual(world.true_now(), 2)
+
+    def test_promises_that_are_past_already(self):
+        world = world_of(2, lease=10)
+        world.begin()
+        world.tick(50)
+        self.settled(world, 1)
+        self.assertEqual(world.true_now(), 50)
+
+    def test_copies_are_given_books(self):
+        world = world_of(2, copies=3)
+        world.stop(0, 2)
+        world.stop(1, 1)
+        sure_of(world, {"a": (1,), "b": (2,)})
+        world.begin()
+        self.settled(world, 1)
+        for house in (0, 1):
+            copies = world.seen_house(house).copies()
+            self.assertEqual([copies.book(copy) for copy in range(3)], [copies.book()] * 3)
+            self.assertGreater(len(copies.book()), 1)
 
     def test_moves_and_forms(self):
         world = world_of(2)
@@ -189,6 +215,17 @@ class Settling(WorldCase):
         self.assertEqual(many, 1002)
         counted = many * 11 // 10
         self.assertEqual(world.told_wait(), ((counted + 1) * 10 - 1) // 9 - many + 2)
+
+    def test_clocks_are_set_ahead_of_the_wait(self):
+        world = world_of(1, drift=(1, 10), lease=10)
+        world.pace(0, 0, (11, 10))
+        world.tick(1000)
+        wide = world.told_wait()
+        world.choose(0, 0)
+        world.begin()
+        self.settled(world, 1)
+        # from the true time alone the bounds go apart less than they were
+        self.assertEqual(world.told_wait(), wide)
 
     def test_drifts_close_to_one(self):
         world = world_of(2, copies=2, drift=(999, 1000))

@@ -78,6 +78,12 @@ class AtTimes(WorldCase):
                 self.assertIs(caught.exception.copy, thing)
         self.assertEqual(reads_of(world), [])
 
+    def test_no_row_of_keys(self):
+        world = stocked()
+        for thing in (None, 5, "ab", {"a": 1}, {"a"}):
+            self.refused(world, NoKey, lambda: read_at(world, 15, thing), key=thing)
+            self.refused(world, NoKey, lambda: read_now(world, 0, thing), key=thing)
+
     def test_what_is_told_by_a_house(self):
         world = stocked(copies=3)
         self.refused(world, Early, lambda: read_at(world, 31, ["a"]), time=31)
@@ -260,7 +266,12 @@ class Beside(WorldCase):
         self.assertEqual(world.seen_house(0).floor(), 15)
         world.rise(house=0, time=20, copy=0)
         self.assertEqual(world.seen_house(0).floor(), 20)
-        self.refused(world, NoKey, lambda: world.look(0, "A", 5), key="A")
+        for thing in ODD:
+            with self.assertRaises(NoKey) as caught:
+                world.look(0, thing, "x")
+            self.assertIs(caught.exception.key, thing)
+        self.refused(world, NoCopy, lambda: world.look(0, "A", "x", copy=5), copy=5)
+        self.refused(world, NoNumber, lambda: world.look(0, "a", "x"))
 
     def test_keep_read(self):
         world = stocked()

@@ -2,7 +2,7 @@
 
 import unittest
 
-from stampedwait.errors import Bare, NoDealing, NoHead, NoHold, NoKey, NoWorth, Off, Sure, Waits
+from stampedwait.errors import Bare, Elsewhere, NoCopy, NoDealing, NoHead, NoHold, NoKey, NoWorth, Off, Sure, Waits
 from stampedwait.moving import form_ahead, move
 from tests.things import BIG, ODD
 from tests.worlds import WorldCase, deliver_all, reign_anew, sure_of, told_at_last, world_of, wrote
@@ -216,6 +216,22 @@ class Taking(WorldCase):
         self.assertEqual(world.seen_house(1).holds().of(dealing), {"*": "write", "a": "write"})
         self.refused(world, NoKey, lambda: world.take(dealing, "*", "write"), key="*")
 
+    def test_at_a_house_else_as_take(self):
+        world = world_of(copies=3)
+        dealing = world.begin()
+        self.refused(world, NoCopy, lambda: world.take_at(dealing, 2, "A", "x"), copy=2)
+        self.refused(world, NoKey, lambda: world.take_at(dealing, 0, "A", "x"), key="A")
+        self.refused(world, NoHold, lambda: world.take_at(dealing, 0, "*", "x"), key="*")
+        self.refused(world, Elsewhere, lambda: world.take_at(dealing, 1, "a", "read"), key="a", house=0)
+        for thing in ODD:
+            if not isinstance(thing, str) or thing != "*":
+                self.assertRaises(NoKey, lambda: world.take_at(dealing, 0, thing, "read"))
+        world.stop(0, 0)
+        self.refused(world, NoHead, lambda: world.take_at(dealing, 0, "a", "read"), house=0)
+        world.put_off(dealing)
+        self.refused(world, Off, lambda: world.take_at(dealing, 0, "a", "read"), dealing=dealing)
+        self.refused(world, Off, lambda: world.put_off(dealing), dealing=dealing)
+
 
 def finished_move(world, key, to):
     dealing = move(world, key, to)
@@ -342,6 +358,34 @@ class Reading(WorldCase):
         world.take(younger, "b", "write")
         world.stop(1, 0)
         self.ended(world, younger, lambda: world.read(younger, "b"))
+
+
+class InHouses(WorldCase):
+    """Reading and putting at one house."""
+
+    def test_what_is_refused(self):
+        world = world_of(copies=3)
+        dealing = world.begin()
+        world.take(dealing, "a", "write")
+        for thing in ODD + [2, -1]:
+            self.assertRaises(NoCopy, lambda: world.read_in_house(dealing, thing, "A"))
+            self.assertRaises(NoCopy, lambda: world.put_in_house(dealing, thing, "A", "x"))
+        for thing in ODD:
+            self.assertRaises(NoKey, lambda: world.read_in_house(dealing, 0, thing))
+            self.assertRaises(NoKey, lambda: world.put_in_house(dealing, 0, thing, "x"))
+            self.assertRaises(NoWorth, lambda: world.put_in_house(dealing, 0, "a", thing))
+        self.refused(world, NoHold, lambda: world.read_in_house(dealing, 0, "c"), key="c")
+        world.stop(0, 0)
+        self.refused(world, NoHead, lambda: world.read_in_house(dealing, 0, "a"), house=0)
+        world.put_off(dealing)
+        self.refused(world, Off, lambda: world.read_in_house(dealing, 0, "a"), dealing=dealing)
+        self.refused(world, Off, lambda: world.put_in_house(dealing, 0, "a", (1,)), dealing=dealing)
+
+    def test_off_for_good(self):
+        world = world_of()
+        elder, younger = called_off_one(world)
+        self.raised(Off, lambda: world.read_in_house(younger, 0, "a"), dealing=younger)
+        self.assertEqual(world.word(younger), "off")
 
 
 class Finishing(WorldCase):

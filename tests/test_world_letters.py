@@ -216,6 +216,14 @@ class Playing(WorldCase):
                 many += 1
                 self.assertEqual(world.book(), ["open", "shut"] * many)
 
+    def test_a_copy_that_is_none_behind_all_else(self):
+        world = world_of()
+        for copy in (None, 1, "x"):
+            self.refused(world, NoNumber, lambda: world.play([("copy", copy, "x", ("A",))]))
+            self.refused(world, NoKey, lambda: world.play([("copy", copy, 0, ("A",))]), key="A")
+            self.refused(world, NoCopy, lambda: world.play([("copy", copy, 0, ("a",))]), copy=copy)
+            self.assertEqual(world.play([("copy", copy, 0, ())]), [{}])
+
     def test_the_book(self):
         world = world_of()
         self.assertEqual(world.book(), [])

@@ -304,6 +304,16 @@ class LongestWait(WorldCase):
         world.set_clock(0, 1)
         self.assertEqual(world.told_wait(), 43)
 
+    def test_behind_a_setting_too(self):
+        world = world_of(1, drift=(1, 10))
+        world.tick(100)
+        above, below = 12, 9
+        for step in range(1, 6):
+            # what it tells is cut by what it told, and the count begins anew
+            world.set_clock(0, 0, before=50, behind=50)
+            self.assertEqual(bounds_of(world), (91, 112 + step))
+            self.assertEqual(world.told_wait(), above + step + below + 2)
+
     def test_a_tick_of_many_is_one(self):
         world = world_of(1, drift=(1, 3))
         world.pace(0, 0, (4, 3))
