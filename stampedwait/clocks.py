@@ -1,9 +1,29 @@
 """Clocks that tell two bounds of the true time."""
 
 from stampedwait.errors import NoBounds, NoDrift, Unset
-from stampedwait.times import is_drift, is_whole, least_passed, most_passed, refuse_no_count
+from stampedwait.times import is_drift, is_whole, least_of, most_of, refuse_no_count
 
 DRIFT = (1, 100)
+
+
+def bounds_behind(stands, counted, drift):
+    """The bounds told when so many ticks are counted behind a setting to these; None of none."""
+    if stands is None:
+        return None
+    return (stands[0] + least_of(counted, drift), stands[1] + most_of(counted, drift))
+
+
+def set_between(told, low, high):
+    """The bounds that a clock which tells these (None: none yet) stands set to by new ones."""
+    if not is_whole(low) or not is_whole(high) or low > high:
+        raise NoBounds(low, high)
+    if told is None:
+        return (low, high)
+    least = max(low, told[0])
+    most = min(high, told[1])
+    if least > most:
+        raise NoBounds(low, high)
+    return (least, most)
 
 
 class Clock:
@@ -23,17 +43,8 @@ class Clock:
         return self.stands is not None
 
     def set_to(self, low, high):
-        if not is_whole(low) or not is_whole(high) or low > high:
-            raise NoBounds(low, high)
-        least = low
-        most = high
-        if self.is_set():
-            told_low, told_high = self.bounds()
-            least = max(low, told_low)
-            most = min(high, told_high)
-        if least > most:
-            raise NoBounds(low, high)
-        self.stands = (least, most)
+        told = bounds_behind(self.stands, self.counted, self.most_drift)
+        self.stands = set_between(told, low, high)
         self.counted = 0
 
     def tick(self, many=1):
@@ -41,12 +52,9 @@ class Clock:
         self.counted += many
 
     def bounds(self):
-        if not self.is_set():
+        if self.stands is None:
             raise Unset("the clock was never set")
-        low, high = self.stands
-        least = least_passed(self.counted, self.most_drift)
-        most = most_passed(self.counted, self.most_drift)
-        return (low + least, high + most)
+        return bounds_behind(self.stands, self.counted, self.most_drift)
 
     def is_past(self, time):
         return self.bounds()[0] > time

@@ -1,7 +1,6 @@
 """Dealings as their driver knows them: what each held, read and wrote, and where."""
 
 from stampedwait.letters import PLEDGE_LETTER
-from stampedwait.owned import owned
 from stampedwait.pledges import form_of, move_of
 from stampedwait.tellings import DEALING_ROW, FORM_ROW
 
@@ -14,7 +13,10 @@ def pairs_by_keys(worths):
 
 
 class Deal:
-    """What it holds stands at the houses alone; here stands by which reigns it came to hold there."""
+    """What it holds stands at the houses alone; here stands by which reigns it came to hold there.
+
+    A Deal is never changed, another one is put in its stead: so it is lent as it is.
+    """
 
     def __init__(self, age, begun, more):
         self.age = age
@@ -34,20 +36,30 @@ class Deal:
     def home(self):
         return min(list(self.reigns))
 
-    def keep_hold(self, house, reign):
-        self.reigns.setdefault(house, reign)
+    def with_state(self, state):
+        other = self.same()
+        other.state = state
+        return other
 
-    def keep_read(self, house, key, worth):
-        self.first_reads.setdefault(key, worth)
-        keys = self.reads.get(house, {})
-        keys[key] = True
-        self.reads[house] = keys
+    def with_hold(self, house, reign):
+        if house in self.reigns:
+            return self
+        other = self.same()
+        other.reigns = {**self.reigns, house: reign}
+        return other
 
-    def keep_write(self, house, key, worth):
-        self.wrote[key] = worth
-        worths = self.writes.get(house, {})
-        worths[key] = worth
-        self.writes[house] = worths
+    def with_read(self, house, key, worth):
+        other = self.same()
+        if key not in self.first_reads:
+            other.first_reads = {**self.first_reads, key: worth}
+        other.reads = {**self.reads, house: {**self.reads.get(house, {}), key: True}}
+        return other
+
+    def with_write(self, house, key, worth):
+        other = self.same()
+        other.wrote = {**self.wrote, key: worth}
+        other.writes = {**self.writes, house: {**self.writes.get(house, {}), key: worth}}
+        return other
 
     def goal_of(self, key, house):
         """For which house a writing of a key that is held at this one is kept."""
@@ -63,22 +75,23 @@ class Deal:
         writes = pairs_by_keys(self.writes.get(house, {}))
         return (houses, self.reigns[house], tuple(reads), tuple(writes), self.more)
 
-    def told_rows(self, dealing, told, stamp):
-        """What stands in a history of it, told at this true time."""
+    def kept_rows(self, dealing, told, stamp):
+        """What is kept for a history of it, told at this true time."""
         reads = [(key, self.first_reads[key]) for key in self.first_reads]
-        rows = [(DEALING_ROW, dealing, self.begun, told, stamp, reads, pairs_by_keys(self.wrote))]
+        rows = [(DEALING_ROW, dealing, self.begun, told, stamp, tuple(reads), tuple(pairs_by_keys(self.wrote)))]
         form = form_of(self.more)
         if form is not None:
             time, fields = form
             rows.append((FORM_ROW, time, fields))
         return rows
 
-    def twin(self):
+    def same(self):
+        """Another one that is the same, for what is put in its stead."""
         other = Deal(self.age, self.begun, self.more)
         other.state = self.state
-        other.reigns = dict(self.reigns)
-        other.first_reads = dict(self.first_reads)
-        other.reads = owned(self.reads)
-        other.wrote = dict(self.wrote)
-        other.writes = owned(self.writes)
+        other.reigns = self.reigns
+        other.first_reads = self.first_reads
+        other.reads = self.reads
+        other.wrote = self.wrote
+        other.writes = self.writes
         return other

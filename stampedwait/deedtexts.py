@@ -14,7 +14,7 @@ SLASH = "/"
 
 def is_number_text(text):
     figures = text[1:] if text.startswith("-") else text
-    if not 1 <= len(figures) <= MOST_FIGURES or not all([sign in FIGURES for sign in figures]):
+    if not 1 <= len(figures) <= MOST_FIGURES or figures.strip(FIGURES) != "":
         return False
     # noughts ahead are left off, and nought has no sign
     return text == "0" or figures[0] != "0"
@@ -76,11 +76,15 @@ def read_thing(text, kind):
 def read_deed(text):
     if not isinstance(text, str):
         raise NoText(0)
-    word, *things = text.split(BLANK)
-    kinds = DEED_THINGS.get(word)
-    if kinds is None or len(things) != len(kinds):
+    return read_deed_words(text.split(BLANK))
+
+
+def read_deed_words(words):
+    """The deed of its text's words; where blanks part nothing a word is empty, and no deed has such a one."""
+    kinds = DEED_THINGS.get(words[0])
+    if kinds is None or len(words) != len(kinds) + 1:
         raise NoText(0)
-    return tuple([word] + [read_thing(thing, kind) for thing, kind in zip(things, kinds)])
+    return tuple(words[:1] + [read_thing(thing, kind) for thing, kind in zip(words[1:], kinds)])
 
 
 def shown_row(things, sign):

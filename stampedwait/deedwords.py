@@ -29,6 +29,7 @@ DEED_THINGS = {
     "form": ("number", "number"),
     "settle": (),
 }
+# stands last wherever it stands
 KEYS_THING = "keys"
 
 
@@ -42,4 +43,4 @@ def is_deed(thing):
     kinds = DEED_THINGS.get(thing[0])
     if kinds is None or len(thing) != len(kinds) + 1:
         return False
-    return all([isinstance(part, tuple) for part, kind in zip(thing[1:], kinds) if kind == KEYS_THING])
+    return not kinds or kinds[-1] != KEYS_THING or isinstance(thing[-1], tuple)

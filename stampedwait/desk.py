@@ -1,6 +1,6 @@
 """A desk that keeps worlds by names and is told rows of words."""
 
-from stampedwait.deedtexts import BLANK, COMMA, read_deed, read_number, shown_row
+from stampedwait.deedtexts import BLANK, COMMA, read_deed_words, read_number, shown_row
 from stampedwait.errors import NoName, NoRow, NoText
 from stampedwait.histories import is_ordered
 from stampedwait.shelves import is_key
@@ -33,12 +33,12 @@ def shown_time(world):
 
 
 def shown_heads(world):
-    heads = [world.house_numbered(house).head() for house in range(world.houses())]
+    heads = [house.head() for house in world.stock]
     return shown_row([NOTHING if head is None else head for head in heads], BLANK)
 
 
 def shown_lying(world):
-    return shown_numbers(list(world.letters()))
+    return shown_numbers(list(world.lying))
 
 
 def shown_ordered(world):
@@ -54,7 +54,6 @@ SHOWN = {
 
 
 def words_of(row):
-    """The words of a row: the first one, and those behind it."""
     if not isinstance(row, str) or "\n" in row:
         raise NoRow("no row")
     words = row.split(BLANK)
@@ -63,10 +62,10 @@ def words_of(row):
     return words
 
 
-def read_of_row(reader, text):
-    """What a reader of texts reads, or NoRow."""
+def read_of_row(reader, thing):
+    """What a reader of texts or words reads, or NoRow."""
     try:
-        return reader(text)
+        return reader(thing)
     except NoText:
         raise NoRow("no row") from None
 
@@ -78,21 +77,22 @@ class Desk:
         self.worlds = {}
 
     def say(self, row):
-        word, *things = words_of(row)
-        if word == "names" and not things:
-            return shown_row(sorted(list(self.worlds)), BLANK) if self.worlds else NOTHING
-        if not things or not is_key(things[0]):
+        words = words_of(row)
+        word = words[0]
+        if word == "names" and len(words) == 1:
+            return BLANK.join(sorted(list(self.worlds))) if self.worlds else NOTHING
+        if len(words) == 1 or not is_key(words[1]):
             raise NoRow("no row with a name")
-        name, *rest = things
-        if word == "new" and len(rest) == 3:
-            return self.begin_world(name, rest)
-        if word == "do" and rest:
-            return self.do_deed(name, BLANK.join(rest))
-        if word == "drop" and not rest:
-            return self.drop_world(name)
-        if word in SHOWN and not rest:
+        name = words[1]
+        if word == "do" and len(words) > 2:
+            return self.do_deed(name, words[2:])
+        if word == "new" and len(words) == 5:
+            return self.begin_world(name, words[2:])
+        if word in SHOWN and len(words) == 2:
             shown = SHOWN[word]
             return shown(self.world_named(name))
+        if word == "drop" and len(words) == 2:
+            return self.drop_world(name)
         raise NoRow("no such row")
 
     def world_named(self, name):
@@ -110,8 +110,8 @@ class Desk:
         self.worlds.pop(name)
         return DONE_WELL
 
-    def do_deed(self, name, text):
-        deed = read_of_row(read_deed, text)
+    def do_deed(self, name, words):
+        deed = read_of_row(read_deed_words, words)
         answers = self.world_named(name).play([deed])
         return shown_answer(answers[0])
 

@@ -1,8 +1,14 @@
-"""Paces: how a clock counts the true ticks."""
+"""Paces: how a clock counts the true ticks.
 
-from stampedwait.times import MOST_BOTTOM, WHOLE, common_divisor, is_from_to, is_row_of_whole
+A hand is a tuple (pace, over): over is the part of a tick that the clock
+hasn't counted yet and that stays over for the next time, as (top, bottom).
+"""
+
+from stampedwait.times import MOST_BOTTOM, common_divisor, is_from_to, is_row_of_whole
 
 NOTHING_OVER = (0, 1)
+# by a pace of 1, with nothing over
+EVEN_HAND = ((1, 1), (0, 1))
 
 
 def is_pace(thing, drift):
@@ -15,30 +21,20 @@ def is_pace(thing, drift):
     return abs(top - bottom) * drift[1] <= drift[0] * bottom
 
 
-class Hand:
-    """Counts whole ticks of a clock; a part of a tick stays over for the next time."""
+def with_pace(hand, pace):
+    return (pace, hand[1])
 
-    def __init__(self):
-        self.rate = WHOLE
-        self.over = NOTHING_OVER
 
-    def change(self, pace):
-        self.rate = pace
+def begun_anew(hand):
+    return (hand[0], NOTHING_OVER)
 
-    def begin_anew(self):
-        self.over = NOTHING_OVER
 
-    def count_on(self, many):
-        """How many ticks the clock counts while so many true ones go by."""
-        top, bottom = self.rate
-        over, parts = self.over
-        whole, rest = divmod(over * bottom + many * top * parts, parts * bottom)
-        shared = common_divisor(parts * bottom, rest)
-        self.over = (rest // shared, parts * bottom // shared)
-        return whole
-
-    def twin(self):
-        other = Hand()
-        other.rate = self.rate
-        other.over = self.over
-        return other
+def counted_on(hand, many):
+    """How many ticks a clock counts while so many true ones go by, and its hand then."""
+    (top, bottom), (over, parts) = hand
+    if top == bottom:
+        # as many as go by: what is over stays as it is
+        return (many, hand)
+    whole, rest = divmod(over * bottom + many * top * parts, parts * bottom)
+    shared = common_divisor(parts * bottom, rest)
+    return (whole, (hand[0], (rest // shared, parts * bottom // shared)))

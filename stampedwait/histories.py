@@ -3,12 +3,8 @@
 from stampedwait.errors import NoHistory
 from stampedwait.ledgers import last_up_to, shaped
 from stampedwait.shelves import MOST_FIELDS, is_key, is_worth
-from stampedwait.tellings import DEALING_ROW, FORM_ROW, NOW_ROW, READ_ROW
+from stampedwait.tellings import DEALING_PARTS, DEALING_ROW, FORM_PARTS, FORM_ROW, NOW_ROW, READ_PARTS, READ_ROW
 from stampedwait.times import is_from_to, is_stamp, is_whole
-
-DEALING_PARTS = 7
-FORM_PARTS = 3
-READ_PARTS = 5
 
 
 def is_row(thing):
@@ -130,6 +126,8 @@ def are_reads_right(history, dealings):
 def is_ordered(thing):
     if not isinstance(thing, list) or not all([is_row(row) for row in thing]):
         return False
+    if not thing:
+        return True
     dealings = dealings_by_stamps(thing)
     if not are_fit(dealings) or not go_as_true_time(dealings):
         return False

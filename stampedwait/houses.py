@@ -4,20 +4,13 @@ from stampedwait.clocks import DRIFT
 from stampedwait.copies import LEASE, NOTHING_PROMISED, Copies
 from stampedwait.errors import Early, Elsewhere, NoHead, NoHold, NoLetter, NoShare, Off, Sure, Waits
 from stampedwait.holds import Holds, is_enough
-from stampedwait.ledgers import DONE, GONE, MARK, OFF, PLEDGED, SURE, Ledger
+from stampedwait.ledgers import DONE, GONE, MARK, OFF, PLEDGED, SURE, Ledger, past_ledger
 from stampedwait.letters import DONE_LETTER, NO_LETTER, OFF_LETTER, PLEDGE_LETTER, WHAT_LETTER, YES_LETTER
 from stampedwait.letters import is_letter_to, letters_to
 from stampedwait.pledges import FORM_ITSELF, PLEDGE, dealing_in, form_in, form_times, holds_wanted
-from stampedwait.pledges import home_in, houses_in, move_in, pledge_times, stamp_in
+from stampedwait.pledges import home_in, houses_in, move_in, pledge_times, refuse_up_to, stamp_in
 from stampedwait.shelves import refuse_no_time
 from stampedwait.times import WHOLE, is_share
-
-
-def refuse_up_to(times, time):
-    """Waits for the least of some times, where it is up to this one."""
-    least = min(times, default=None)
-    if least is not None and least <= time:
-        raise Waits(least)
 
 
 class House:
@@ -32,8 +25,11 @@ class House:
         self.crew = Copies(copies, drift=drift, lease=lease)
         self.noted = Ledger(number, houses)
         self.key_holds = Holds()
+        # of each dealing the stamps of those that said yes: never changed, but others put in their stead
         self.votes = {}
         self.floor_now = NOTHING_PROMISED
+        # ledgers of beginnings of the book, by their lengths: kept for later reads, right for this book alone
+        self.past = {}
 
     def number(self):
         return self.own_number
@@ -42,14 +38,13 @@ class House:
         return self.floor_now
 
     def reign(self):
-        return self.crew.reign()
+        return self.crew.reigns
 
     def head(self):
         return self.crew.head()
 
     def bounds(self):
-        self.need_head()
-        return self.crew.clock(self.crew.head()).bounds()
+        return self.crew.spans[self.need_head()]
 
     def copies(self):
         return self.crew.twin()
@@ -61,8 +56,11 @@ class House:
         return self.key_holds.twin()
 
     def need_head(self):
-        if self.crew.head() is None:
+        """The head's number, or NoHead."""
+        head = self.crew.head()
+        if head is None:
             raise NoHead(self.own_number)
+        return head
 
     def need_writing(self):
         if not self.crew.can_write():
@@ -109,7 +107,7 @@ class House:
 
     def hold(self, dealing, key, mode, *, reign, age=None, coming=False):
         self.need_head()
-        if reign != self.reign() or self.noted.word(dealing) is not None:
+        if reign != self.crew.reigns or self.noted.word(dealing) is not None:
             raise Off(dealing)
         if not coming and not self.is_asked_here(key):
             raise Elsewhere(key, self.noted.house_of(key))
@@ -122,7 +120,7 @@ class House:
 
     def newest(self, dealing, key):
         self.need_head()
-        if key not in self.key_holds.of(dealing):
+        if self.key_holds.way_of(dealing, key) is None:
             raise NoHold(key)
         return self.noted.newest(key)
 
@@ -137,11 +135,13 @@ class House:
 
     def has_lost(self, dealing, reign):
         """Whether what it held by this reign is gone: it was called off, or a new reign began."""
-        return reign != self.reign() or dealing in self.key_holds.called_off()
+        return reign != self.crew.reigns or self.key_holds.is_off(dealing)
 
     def enter(self, entry):
         self.crew.write(entry)
         self.noted.note(entry)
+        # twins and trials have the book without this entry, and may write another one
+        self.past = dict(self.past)
 
     def end(self, entry):
         self.enter(entry)
@@ -155,8 +155,12 @@ class House:
     def receive(self, thing):
         if not is_letter_to(thing, self.own_number):
             raise NoLetter("no letter to this house")
+        return self.take_letter(thing)
+
+    def take_letter(self, letter):
+        """What is known to be a letter to this house."""
         self.need_writing()
-        word, dealing, sender, to, body = thing
+        word, dealing, sender, to, body = letter
         if word == PLEDGE_LETTER:
             return self.take_pledge(dealing, body)
         if word == YES_LETTER:
@@ -185,12 +189,12 @@ class House:
         home = min(body[0])
         letter = (word, dealing, self.own_number, home, stamp)
         # letters go between houses alone: to itself it comes at once
-        return self.receive(letter) if home == self.own_number else [letter]
+        return self.take_letter(letter) if home == self.own_number else [letter]
 
     def try_pledge(self, dealing, body):
         houses, reign, reads, writes, more = body
         pledge = (PLEDGE, dealing, min(houses), houses, self.next_stamp(), reads, writes, more)
-        if reign != self.reign() or not self.can_be_pledged(pledge):
+        if reign != self.crew.reigns or not self.can_be_pledged(pledge):
             self.end((OFF, dealing))
             return
         refuse_up_to(form_times(self.noted.pending_pledges()), stamp_in(pledge)[0])
@@ -204,19 +208,17 @@ class House:
 
     def can_be_pledged(self, pledge):
         dealing = dealing_in(pledge)
-        if dealing in self.key_holds.called_off():
+        if self.key_holds.is_off(dealing):
             return False
-        mine = self.key_holds.of(dealing)
         some = holds_wanted(pledge)
-        if not all([is_enough(mine.get(key), some[key]) for key in some]):
+        if not all([is_enough(self.key_holds.way_of(dealing, key), some[key]) for key in some]):
             return False
         form = form_in(pledge)
         return form is None or form[0] > max(self.bounds()[1], self.floor_now, self.noted.last_stamp()[0])
 
     def take_yes(self, dealing, sender, stamp):
-        votes = self.votes.get(dealing, {})
-        votes[sender] = stamp
-        self.votes[dealing] = votes
+        votes = {**self.votes.get(dealing, {}), sender: stamp}
+        self.votes = {**self.votes, dealing: votes}
         if self.noted.word(dealing) != PLEDGED:
             return []
         pledge = self.noted.pledge_of(dealing)
@@ -310,7 +312,7 @@ class House:
         if copy is None or copy == self.crew.head():
             self.need_head()
             return True
-        if not self.crew.is_up(copy):
+        if not self.crew.ups[copy]:
             raise NoHead(self.own_number)
         return False
 
@@ -323,10 +325,10 @@ class House:
         refuse_up_to(pledge_times(pledges) + form_times(pledges), time)
 
     def ledger_of(self, copy):
-        ledger = Ledger(self.own_number, self.many_houses)
-        for entry in self.crew.book(copy):
-            ledger.note(entry)
-        return ledger
+        """The ledger of a copy's own book: only to be asked, never told or changed."""
+        if not self.crew.is_behind(copy):
+            return self.noted
+        return past_ledger(self.past, self.own_number, self.many_houses, self.crew.book(copy))
 
     def look(self, key, time, *, copy=None):
         self.refuse_no_reading(time, copy)
@@ -335,8 +337,9 @@ class House:
             self.refuse_unreadable(time)
         else:
             ledger = self.ledger_of(copy)
-            if time > ledger.safe():
-                raise Waits(ledger.safe())
+            safe = ledger.safe()
+            if time > safe:
+                raise Waits(safe)
             ledger.refuse_gone(time)
         house = ledger.house_at(key, time)
         if house != self.own_number:
@@ -375,11 +378,18 @@ class House:
         self.enter((GONE, time))
         self.rise_to(time)
 
+    def parts(self):
+        """All that it keeps, for another one or to be put back: a change leaves it as it is."""
+        return (self.crew.parts(), self.noted.parts(), self.key_holds.parts(), self.votes, self.floor_now, self.past)
+
+    def put_parts(self, parts):
+        crew, noted, key_holds, self.votes, self.floor_now, self.past = parts
+        self.crew.put_parts(crew)
+        self.noted.put_parts(noted)
+        self.key_holds.put_parts(key_holds)
+
     def twin(self):
-        other = House(self.own_number, self.many_houses, wait=self.share)
-        other.crew = self.crew.twin()
-        other.noted = self.noted.twin()
-        other.key_holds = self.key_holds.twin()
-        other.votes = {dealing: dict(self.votes[dealing]) for dealing in self.votes}
-        other.floor_now = self.floor_now
+        other = House(self.own_number, self.many_houses, copies=len(self.crew), drift=self.crew.most_drift,
+                      lease=self.crew.lease, wait=self.share)
+        other.put_parts(self.parts())
         return other

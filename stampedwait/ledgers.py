@@ -10,16 +10,23 @@ OFF = "off"
 MARK = "mark"
 GONE = "gone"
 NO_TIME = -1
+# the word, the pledge's entry, the stamp and the low of a dealing of which nothing is noted
+UNNOTED = (None, None, None, None)
+FIRST_LETTER = 97
+# of how many beginnings of one book ledgers are kept at once
+MOST_PAST = 8
 
 
 def first_house(key, houses):
-    return sum([ord(sign) - ord("a") for sign in key]) % houses
+    return (sum([ord(sign) for sign in key]) - FIRST_LETTER * len(key)) % houses
 
 
 def last_up_to(rows, time, otherwise):
     """The thing of the last of some rows (time, thing) that is up to this time."""
-    some = [thing for begun, thing in rows if begun <= time]
-    return some[-1] if some else otherwise
+    for begun, thing in reversed(rows):
+        if begun <= time:
+            return thing
+    return otherwise
 
 
 def shaped(worth, fields):
@@ -35,19 +42,29 @@ class Ledger:
     def __init__(self, house, houses=1):
         self.at_house = house
         self.many_houses = houses
-        self.words = {}
-        self.pledges = {}
+        # of each dealing its word, its pledge's entry, its stamp and the low of its deciding
+        self.notes = {}
+        # the entries of pledges that are pledged or sure, by their dealings
         self.unended = {}
-        self.stamps = {}
-        self.lows = {}
+        # whether others have these two dicts, too
+        self.lent = False
         self.greatest_stamp = None
         self.greatest_serial = 0
         self.greatest_mark = None
         self.worths = Shelf()
+        # these two are never changed, others are put in their stead: so they are lent as they are
         self.moved = {}
         self.forms = []
 
+    def make_own(self):
+        """Ahead of a change."""
+        if self.lent:
+            self.notes = dict(self.notes)
+            self.unended = dict(self.unended)
+            self.lent = False
+
     def note(self, entry):
+        self.make_own()
         word = entry[0]
         if word == PLEDGE:
             self.note_pledge(entry)
@@ -62,40 +79,41 @@ class Ledger:
         elif word == GONE:
             self.worths.let_go(entry[1])
 
+    def noted_of(self, dealing):
+        return self.notes.get(dealing, UNNOTED)
+
     def note_pledge(self, entry):
         dealing = entry[1]
-        self.words[dealing] = PLEDGED
-        self.pledges[dealing] = entry
-        self.unended[dealing] = True
+        word, pledge, stamp, low = self.noted_of(dealing)
+        self.notes[dealing] = (PLEDGED, entry, stamp, low)
+        self.unended[dealing] = entry
         self.note_stamp(stamp_in(entry))
 
     def note_sure(self, entry):
-        dealing = entry[1]
-        self.words[dealing] = SURE
-        self.stamps[dealing] = entry[2]
-        self.lows[dealing] = entry[3]
-        self.note_stamp(entry[2])
+        word, dealing, stamp, low = entry
+        self.notes[dealing] = (SURE, self.pledge_of(dealing), stamp, low)
+        self.note_stamp(stamp)
 
     def note_done(self, entry):
-        dealing = entry[1]
-        stamp = entry[2]
-        pledge = self.pledges[dealing]
-        self.note_end(dealing, DONE)
-        self.stamps[dealing] = stamp
+        word, dealing, stamp = entry
+        pledge = self.pledge_of(dealing)
+        self.notes[dealing] = (DONE, pledge, stamp, self.low_of(dealing))
+        self.unended.pop(dealing, None)
         self.note_stamp(stamp)
         for key, worth in writes_in(pledge):
             self.worths.put(key, stamp, worth)
         move = move_in(pledge)
         if move is not None:
             key, to = move
-            self.moved[key] = self.moved.get(key, []) + [(stamp[0], to)]
+            self.moved = {**self.moved, key: self.moved.get(key, []) + [(stamp[0], to)]}
         form = form_in(pledge)
         if form is not None:
             # sorted by time alone, so that of like times the one done last stays last
             self.forms = sorted(self.forms + [form], key=lambda row: row[0])
 
     def note_end(self, dealing, word):
-        self.words[dealing] = word
+        was, pledge, stamp, low = self.noted_of(dealing)
+        self.notes[dealing] = (word, pledge, stamp, low)
         self.unended.pop(dealing, None)
 
     def note_stamp(self, stamp):
@@ -108,22 +126,24 @@ class Ledger:
             self.greatest_mark = time
 
     def word(self, dealing):
-        return self.words.get(dealing)
+        return self.notes.get(dealing, UNNOTED)[0]
 
     def pledge_of(self, dealing):
-        return self.pledges.get(dealing)
+        return self.notes.get(dealing, UNNOTED)[1]
 
     def stamp_of(self, dealing):
-        return self.stamps.get(dealing)
+        return self.notes.get(dealing, UNNOTED)[2]
 
     def low_of(self, dealing):
-        return self.lows.get(dealing)
+        return self.notes.get(dealing, UNNOTED)[3]
 
     def pending(self):
         return sorted(list(self.unended))
 
     def pending_pledges(self):
-        return [self.pledges[dealing] for dealing in self.pending()]
+        if not self.unended:
+            return []
+        return [self.unended[dealing] for dealing in self.pending()]
 
     def last_stamp(self):
         if self.greatest_stamp is None:
@@ -153,7 +173,8 @@ class Ledger:
         return rows[-1][1] if rows else first_house(key, self.many_houses)
 
     def house_at(self, key, time):
-        return last_up_to(self.moved.get(key, []), time, first_house(key, self.many_houses))
+        house = last_up_to(self.moved.get(key, []), time, None)
+        return first_house(key, self.many_houses) if house is None else house
 
     def fields_at(self, time):
         return last_up_to(self.forms, time, None)
@@ -163,19 +184,36 @@ class Ledger:
 
     def safe(self):
         most = max(self.last_mark(), self.last_stamp()[0] - 1)
-        return min([most] + [time - 1 for time in pledge_times(self.pending_pledges())])
+        if not self.unended:
+            return most
+        return min(most, min(pledge_times(self.pending_pledges())) - 1)
+
+    def parts(self):
+        """All that it keeps, for another one or to be put back: lent, so that a change leaves it as it is."""
+        self.lent = True
+        return (self.notes, self.unended, self.greatest_stamp, self.greatest_serial, self.greatest_mark,
+                self.worths.parts(), self.moved, self.forms)
+
+    def put_parts(self, parts):
+        (self.notes, self.unended, self.greatest_stamp, self.greatest_serial, self.greatest_mark,
+         worths, self.moved, self.forms) = parts
+        self.worths.put_parts(worths)
+        self.lent = True
 
     def twin(self):
         other = Ledger(self.at_house, self.many_houses)
-        other.words = dict(self.words)
-        other.pledges = dict(self.pledges)
-        other.unended = dict(self.unended)
-        other.stamps = dict(self.stamps)
-        other.lows = dict(self.lows)
-        other.greatest_stamp = self.greatest_stamp
-        other.greatest_serial = self.greatest_serial
-        other.greatest_mark = self.greatest_mark
-        other.worths = self.worths.twin()
-        other.moved = {key: list(self.moved[key]) for key in self.moved}
-        other.forms = list(self.forms)
+        other.put_parts(self.parts())
         return other
+
+
+def past_ledger(past, house, houses, book):
+    """The ledger of a beginning of a book; it is kept in past, by its length, for the next time."""
+    many = len(book)
+    if many not in past:
+        if len(past) >= MOST_PAST:
+            past.clear()
+        ledger = Ledger(house, houses)
+        for entry in book:
+            ledger.note(entry)
+        past[many] = ledger
+    return past[many]

@@ -1,5 +1,6 @@
 """What stands in a pledge's entry: (word, dealing, home, houses, stamp, reads, writes, more)."""
 
+from stampedwait.errors import Waits
 from stampedwait.holds import READ, WRITE
 
 PLEDGE = "pledge"
@@ -72,3 +73,9 @@ def pledge_times(pledges):
 def form_times(pledges):
     forms = [form_in(pledge) for pledge in pledges]
     return [form[0] for form in forms if form is not None]
+
+
+def refuse_up_to(times, time):
+    """Waits for the least of some times, where it is up to this one."""
+    if times and min(times) <= time:
+        raise Waits(min(times))

@@ -11,7 +11,7 @@ MOST_FIELDS = 4
 def is_key(thing):
     if not isinstance(thing, str) or not 1 <= len(thing) <= MOST_LETTERS:
         return False
-    return all([sign in LETTERS for sign in thing])
+    return thing.strip(LETTERS) == ""
 
 
 def is_worth(thing):
@@ -30,7 +30,18 @@ def refuse_no_time(thing):
 
 def many_up_to(row, time):
     """How many of a row's stamps have a time that is up to this one."""
-    return len([stamp for stamp, worth in row if stamp[0] <= time])
+    least = 0
+    most = len(row)
+    # mostly the newest worth is asked for; else the row is halved, for its times rise
+    if most == 0 or row[-1][0][0] <= time:
+        return most
+    while least < most:
+        middle = (least + most) // 2
+        if row[middle][0][0] <= time:
+            least = middle + 1
+        else:
+            most = middle
+    return least
 
 
 class Shelf:
@@ -39,11 +50,21 @@ class Shelf:
     def __init__(self):
         self.rows = {}
         self.let_go_to = None
+        # whether others have these rows, too, and of which keys the row is its own all the same
+        self.lent = False
+        self.own_rows = {}
 
     def row_of(self, key):
         # the kept row itself: for the methods below, never told
         refuse_no_key(key)
         return self.rows.get(key, [])
+
+    def make_own(self):
+        """Ahead of a change: the rows are its own, but what stands in them is still lent."""
+        if self.lent:
+            self.rows = dict(self.rows)
+            self.own_rows = {}
+            self.lent = False
 
     def put(self, key, stamp, worth):
         row = self.row_of(key)
@@ -53,15 +74,22 @@ class Shelf:
             raise NoStamp("the key has a stamp as great or greater")
         if not is_worth(worth):
             raise NoWorth("no worth")
+        self.make_own()
+        if key not in self.own_rows:
+            row = list(row)
+            self.rows[key] = row
+            self.own_rows[key] = True
         row.append((stamp, worth))
-        self.rows[key] = row
 
     def let_go(self, time):
         refuse_no_time(time)
+        self.make_own()
         for key in list(self.rows):
-            row = self.rows[key]
             # the last one up to the time is still what is read at it
-            self.rows[key] = row[max(0, many_up_to(row, time) - 1):]
+            elder = many_up_to(self.rows[key], time) - 1
+            if elder > 0:
+                self.rows[key] = self.rows[key][elder:]
+                self.own_rows[key] = True
         if self.let_go_to is None or time > self.let_go_to:
             self.let_go_to = time
 
@@ -90,10 +118,18 @@ class Shelf:
         if self.let_go_to is not None and time < self.let_go_to:
             raise Gone(self.let_go_to)
 
+    def parts(self):
+        """All that it keeps, for another one or to be put back: lent, so that a change leaves it as it is."""
+        self.lent = True
+        return (self.rows, self.let_go_to)
+
+    def put_parts(self, parts):
+        self.rows, self.let_go_to = parts
+        self.lent = True
+
     def twin(self):
         other = Shelf()
-        other.rows = {key: list(self.rows[key]) for key in self.rows}
-        other.let_go_to = self.let_go_to
+        other.put_parts(self.parts())
         return other
 
     def __len__(self):

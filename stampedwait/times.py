@@ -16,14 +16,17 @@ def is_count(thing):
 
 
 def is_from_to(thing, least, most):
-    return is_whole(thing) and least <= thing <= most
+    return isinstance(thing, int) and not isinstance(thing, bool) and least <= thing <= most
 
 
 def is_row_of_whole(thing, least, most):
     """Whether it is a tuple of whole numbers, from least to most many."""
     if not isinstance(thing, tuple) or not least <= len(thing) <= most:
         return False
-    return all([is_whole(part) for part in thing])
+    for part in thing:
+        if not isinstance(part, int) or isinstance(part, bool):
+            return False
+    return True
 
 
 def common_divisor(first, second):
@@ -33,12 +36,12 @@ def common_divisor(first, second):
 
 
 def is_share(thing):
-    if not is_row_of_whole(thing, 2, 2):
+    if not isinstance(thing, tuple) or len(thing) != 2:
         return False
     top, bottom = thing
-    if not 1 <= bottom <= MOST_BOTTOM or not 0 <= top <= bottom:
+    if not is_from_to(bottom, 1, MOST_BOTTOM) or not is_from_to(top, 0, bottom):
         return False
-    return common_divisor(top, bottom) == 1
+    return top == 1 or common_divisor(top, bottom) == 1
 
 
 def is_drift(thing):
@@ -54,17 +57,27 @@ def refuse_no_count(thing):
         raise NoNumber("no whole number from 0 on")
 
 
-def least_passed(ticks, drift):
-    """The least p such that p times 1 and the drift is ticks or more."""
-    refuse_no_count(ticks)
+def least_of(ticks, drift):
+    """As least_passed, of what is known to be a count."""
     top, bottom = drift
     # the quotient rounded up: the one below is short of the ticks
     return -(-ticks * bottom // (bottom + top))
 
 
-def most_passed(ticks, drift):
-    """The greatest p such that p times 1 less the drift is below ticks and 1."""
-    refuse_no_count(ticks)
+def most_of(ticks, drift):
+    """As most_passed, of what is known to be a count."""
     top, bottom = drift
     # one less ahead of dividing: to come to ticks and 1 is too many already
     return ((ticks + 1) * bottom - 1) // (bottom - top)
+
+
+def least_passed(ticks, drift):
+    """The least p such that p times 1 and the drift is ticks or more."""
+    refuse_no_count(ticks)
+    return least_of(ticks, drift)
+
+
+def most_passed(ticks, drift):
+    """The greatest p such that p times 1 less the drift is below ticks and 1."""
+    refuse_no_count(ticks)
+    return most_of(ticks, drift)

@@ -5,23 +5,20 @@ from stampedwait.copies import LEASE
 from stampedwait.deals import ASKED, OPEN, Deal
 from stampedwait.deeds import do_deed
 from stampedwait.errors import Bare, NoCopy, NoDealing, NoDeed, NoHold, NoLetter, NoNumber, NoPace, NoWorth, Off
-from stampedwait.hands import Hand, is_pace
-from stampedwait.holds import HELD, READ, WRITE
+from stampedwait.hands import EVEN_HAND, begun_anew, counted_on, is_pace, with_pace
+from stampedwait.holds import HELD, WRITE, is_way
 from stampedwait.houses import House
 from stampedwait.ledgers import OFF, SURE, first_house
-from stampedwait.owned import owned
+from stampedwait.owned import changed_at
 from stampedwait.pledges import FORM_ITSELF
 from stampedwait.shelves import is_worth, refuse_no_key
+from stampedwait.tellings import rows_as_told
 from stampedwait.times import WHOLE, is_from_to, is_whole, refuse_no_count
 
 MOST_HOUSES = 4
 MOST_TICKS = 10000
 # what a stamp's time may be above all clocks' highs, and what a low must be above it
 WAIT_BESIDE = 2
-
-
-def is_way(thing):
-    return isinstance(thing, str) and thing in (READ, WRITE)
 
 
 class World:
@@ -32,8 +29,8 @@ class World:
             raise NoNumber("no number of houses")
         self.stock = [House(number, houses, copies=copies, drift=drift, lease=lease, wait=wait)
                       for number in range(houses)]
-        self.hands = [[Hand() for copy in range(copies)] for number in range(houses)]
-        self.most_drift = drift
+        # the hands of each house's clocks: no row is changed, another one is put in its stead
+        self.hands = [[EVEN_HAND] * copies] * houses
         self.true_time = 0
         self.most_above = 0
         self.most_below = 0
@@ -42,9 +39,10 @@ class World:
         self.sent = 0
         self.rows_told = []
         self.playings = []
+        # a world in which rows of deeds are tried, made when the first one is played
+        self.trial = None
         for house in self.stock:
-            for copy in range(copies):
-                house.set_clock(copy, 0, 0)
+            house.crew.set_all(0, 0)
         self.note_bounds()
 
     def house_numbered(self, house):
@@ -59,9 +57,8 @@ class World:
     def need_head(self, house):
         self.house_numbered(house).need_head()
 
-    def hand_of(self, house, copy):
-        self.house_numbered(house).crew.refuse_no_copy(copy)
-        return self.hands[house][copy]
+    def change_hand(self, house, copy, hand):
+        self.hands = changed_at(self.hands, house, changed_at(self.hands[house], copy, hand))
 
     def true_now(self):
         return self.true_time
@@ -71,9 +68,11 @@ class World:
 
     def note_bounds(self):
         for house in self.stock:
-            for low, high in house.crew.all_bounds():
-                self.most_above = max(self.most_above, high - self.true_time)
-                self.most_below = max(self.most_below, self.true_time - low)
+            for low, high in house.crew.spans:
+                if high - self.true_time > self.most_above:
+                    self.most_above = high - self.true_time
+                if self.true_time - low > self.most_below:
+                    self.most_below = self.true_time - low
 
     def tick(self, many=1):
         if not is_from_to(many, 1, MOST_TICKS):
@@ -82,24 +81,26 @@ class World:
 
     def go_on(self, many):
         self.true_time += many
-        for house, hands in zip(self.stock, self.hands):
-            for copy, hand in enumerate(hands):
-                house.tick_clock(copy, hand.count_on(many))
+        counted = [[counted_on(hand, many) for hand in hands] for hands in self.hands]
+        self.hands = [[hand for whole, hand in row] for row in counted]
+        for house, row in zip(self.stock, counted):
+            house.crew.tick_all([whole for whole, hand in row])
         self.note_bounds()
 
     def set_clock(self, house, copy, *, before=0, behind=0):
-        hand = self.hand_of(house, copy)
+        self.house_numbered(house).crew.refuse_no_copy(copy)
         refuse_no_count(before)
         refuse_no_count(behind)
         self.stock[house].set_clock(copy, self.true_time - before, self.true_time + behind)
-        hand.begin_anew()
+        self.change_hand(house, copy, begun_anew(self.hands[house][copy]))
         self.note_bounds()
 
     def pace(self, house, copy, pace):
-        hand = self.hand_of(house, copy)
-        if not is_pace(pace, self.most_drift):
+        crew = self.house_numbered(house).crew
+        crew.refuse_no_copy(copy)
+        if not is_pace(pace, crew.most_drift):
             raise NoPace("no pace within the drift")
-        hand.change(pace)
+        self.change_hand(house, copy, with_pace(self.hands[house][copy], pace))
 
     def stop(self, house, copy):
         self.house_numbered(house).stop(copy)
@@ -202,12 +203,12 @@ class World:
         self.need_standing(dealing, house)
         word, off = asked.hold(dealing, key, mode, reign=asked.reign(), age=deal.age, coming=coming)
         if word == HELD:
-            deal.keep_hold(house, asked.reign())
+            self.deals[dealing] = deal.with_hold(house, asked.reign())
         return word
 
     def how_held(self, dealing, house, key):
         """The way in which it holds a key at a house, or None."""
-        return self.stock[house].key_holds.of(dealing).get(key)
+        return self.stock[house].key_holds.way_of(dealing, key)
 
     def house_held_at(self, dealing, key):
         self.need_word(dealing, (OPEN,))
@@ -232,7 +233,7 @@ class World:
         self.need_word(dealing, (OPEN,))
         self.need_standing(dealing, house)
         worth = asked.newest(dealing, key)
-        deal.keep_read(house, key, worth)
+        self.deals[dealing] = deal.with_read(house, key, worth)
         return worth
 
     def write(self, dealing, key, worth):
@@ -243,7 +244,7 @@ class World:
         house = self.house_held_at(dealing, key)
         if self.how_held(dealing, house, key) != WRITE:
             raise NoHold(key)
-        deal.keep_write(deal.goal_of(key, house), key, worth)
+        self.deals[dealing] = deal.with_write(deal.goal_of(key, house), key, worth)
 
     def put_in_house(self, dealing, house, key, worth):
         deal = self.deal_of(dealing)
@@ -252,14 +253,14 @@ class World:
         if not is_worth(worth):
             raise NoWorth("no worth")
         self.need_word(dealing, (OPEN,))
-        deal.keep_write(house, key, worth)
+        self.deals[dealing] = deal.with_write(house, key, worth)
 
     def finish(self, dealing):
         deal = self.deal_of(dealing)
         self.need_word(dealing, (OPEN, ASKED))
         if not deal.reigns:
             raise Bare("it never held anything")
-        deal.state = ASKED
+        self.deals[dealing] = deal.with_state(ASKED)
         self.send(deal.pledge_letters(dealing))
 
     def tell(self, dealing):
@@ -271,8 +272,8 @@ class World:
         letters = home.tell(dealing)
         stamp = home.noted.stamp_of(dealing)
         if deal.state == ASKED:
-            deal.state = SURE
-            self.rows_told.extend(deal.told_rows(dealing, self.true_time, stamp))
+            self.deals[dealing] = deal.with_state(SURE)
+            self.rows_told.extend(deal.kept_rows(dealing, self.true_time, stamp))
         self.send(letters)
         return stamp
 
@@ -288,7 +289,7 @@ class World:
     def put_off(self, dealing):
         deal = self.deal_of(dealing)
         self.need_word(dealing, (OPEN,))
-        deal.state = OFF
+        self.deals[dealing] = deal.with_state(OFF)
         for house in self.stock:
             house.loosen(dealing)
 
@@ -309,7 +310,7 @@ class World:
 
     def deliver(self, number):
         letter = self.letter_numbered(number)
-        return self.send(self.stock[letter[3]].receive(letter))
+        return self.send(self.stock[letter[3]].take_letter(letter))
 
     def lose(self, number):
         self.letter_numbered(number)
@@ -338,7 +339,7 @@ class World:
         self.rows_told.append((word, self.true_time, time, key, worth))
 
     def history(self):
-        return owned(self.rows_told)
+        return rows_as_told(self.rows_told)
 
     def book(self):
         return list(self.playings)
@@ -353,33 +354,45 @@ class World:
     def play_all(self, deeds):
         if not isinstance(deeds, list):
             raise NoDeed("no list of deeds")
-        # a trial by a twin: where one is refused nothing was done here
-        trial = self.twin()
+        # a trial by another world: where one is refused nothing was done here
+        trial = self.trial_world()
         answers = [do_deed(trial, deed) for deed in deeds]
-        self.become(trial)
+        # the trial is left with houses that are given their parts anew at its next use
+        self.stock, trial.stock = trial.stock, self.stock
+        self.put_rest(trial.rest())
         return answers
 
+    def trial_world(self):
+        """A world that is as this one is, to be used at once; twins have the same one."""
+        if self.trial is None:
+            self.trial = self.twin()
+        else:
+            self.trial.become(self)
+        return self.trial
+
+    def rest(self):
+        """All that it keeps beside its houses and its book."""
+        return (self.hands, self.true_time, self.most_above, self.most_below, self.deals, self.lying, self.sent,
+                self.rows_told)
+
+    def put_rest(self, rest):
+        (self.hands, self.true_time, self.most_above, self.most_below, self.deals, self.lying, self.sent,
+         self.rows_told) = rest
+
     def become(self, other):
-        """As the other one is, which is used no more; but the book of playings is its own."""
-        self.stock = other.stock
-        self.hands = other.hands
-        self.true_time = other.true_time
-        self.most_above = other.most_above
-        self.most_below = other.most_below
-        self.deals = other.deals
-        self.lying = other.lying
-        self.sent = other.sent
-        self.rows_told = other.rows_told
+        """As the other one is, but for its book; both go on by themselves."""
+        for house, like in zip(self.stock, other.stock):
+            house.put_parts(like.parts())
+        self.put_rest(other.rest())
+        self.deals = list(self.deals)
+        self.lying = dict(self.lying)
+        self.rows_told = list(self.rows_told)
 
     def twin(self):
-        other = World(len(self.stock))
+        crew, share = self.stock[0].crew, self.stock[0].share
+        other = World(len(self.stock), copies=len(crew), drift=crew.most_drift, lease=crew.lease, wait=share)
         other.become(self)
-        other.most_drift = self.most_drift
-        other.stock = [house.twin() for house in self.stock]
-        other.hands = [[hand.twin() for hand in hands] for hands in self.hands]
-        other.deals = [deal.twin() for deal in self.deals]
-        other.lying = dict(self.lying)
-        other.rows_told = list(self.rows_told)
+        other.trial = self.trial
         return other
 
     def __len__(self):
